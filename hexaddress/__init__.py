@@ -1,0 +1,1 @@
+"""The floor of six-sided cells, and addresses of figures."""
