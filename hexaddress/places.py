@@ -2,6 +2,7 @@
 
 from hexaddress.errors import NoCell
 
+MIDDLE = (0, 0)
 FIRST_STEP = (1, 0)
 DIRECTIONS = (1, 2, 3, 4, 5, 6)
 

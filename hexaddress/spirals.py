@@ -1,9 +1,8 @@
 """Rings round the middle of the floor, and the spiral that goes through them."""
 
 from hexaddress.errors import NoCell
-from hexaddress.places import added, distance, step, turned
+from hexaddress.places import MIDDLE, added, distance, step, turned
 
-MIDDLE = (0, 0)
 SIDES = (3, 4, 5, 6, 1, 2)
 
 

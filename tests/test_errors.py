@@ -1,8 +1,7 @@
 import unittest
 
-from hexaddress.errors import Apart, FloorError, NoCell, NoFigure, NoLevel
-
-REFUSALS = (NoCell, NoFigure, NoLevel, Apart)
+from helper import REFUSALS
+from hexaddress.errors import FloorError
 
 
 class Errors(unittest.TestCase):

@@ -1,11 +1,9 @@
 import unittest
 
-from hexaddress.errors import Apart, FloorError, NoCell, NoFigure, NoLevel
+from helper import GREATEST, LONG, STEPS, FloorCase, turned_once
+from hexaddress.errors import NoCell
 from hexaddress.places import added, distance, neighbours, step, taken, turned
 
-GREATEST = 10 ** 40 - 1
-LONG = 1234567890123456789012345678901234567890
-STEPS = {1: (1, 0), 2: (0, 1), 3: (-1, 1), 4: (-1, 0), 5: (0, -1), 6: (1, -1)}
 PLACES = [
     (0, 0), (1, 0), (0, 1), (-1, 1), (3, 5), (-3, 5), (3, -5), (-3, -5), (5, -5), (7, 0), (0, -7),
     (LONG, -3), (-LONG, LONG), (GREATEST, GREATEST), (-GREATEST, -GREATEST), (GREATEST, -GREATEST),
@@ -13,21 +11,7 @@ PLACES = [
 ]
 
 
-def turned_once(place):
-    return (-place[1], place[0] + place[1])
-
-
-class PlaceCase(unittest.TestCase):
-    def assert_place(self, answer, place):
-        self.assertEqual(answer, place)
-        self.assert_kind_of_place(answer)
-
-    def assert_kind_of_place(self, answer):
-        self.assertIs(type(answer), tuple)
-        self.assertEqual([type(number) for number in answer], [int, int])
-
-
-class Sums(PlaceCase):
+class Sums(FloorCase):
     def test_added(self):
         self.assert_place(added((1, 2), (10, 20)), (11, 22))
         self.assert_place(added((1, 2), (-10, -20)), (-9, -18))
@@ -53,7 +37,7 @@ class Sums(PlaceCase):
                 self.assert_place(taken(one, other), (one[0] - other[0], one[1] - other[1]))
 
 
-class Turns(PlaceCase):
+class Turns(FloorCase):
     def test_written_out(self):
         self.assert_place(turned((2, 1), 0), (2, 1))
         self.assert_place(turned((2, 1), 1), (-1, 3))
@@ -98,7 +82,7 @@ class Turns(PlaceCase):
         self.assert_place(turned((GREATEST, GREATEST), -1), (2 * GREATEST, -GREATEST))
 
 
-class Steps(PlaceCase):
+class Steps(FloorCase):
     def test_each_step(self):
         for direction in STEPS:
             self.assert_place(step(direction), STEPS[direction])
@@ -110,14 +94,10 @@ class Steps(PlaceCase):
     def test_other_numbers_are_refused(self):
         # A number of 5000 figures is one that Python itself would not write out.
         for direction in (0, 7, 8, 12, 13, -1, -2, -6, -7, LONG, -LONG, 10 ** 5000, -10 ** 5000):
-            with self.assertRaises(NoCell) as caught:
-                step(direction)
-            self.assertIsInstance(caught.exception, FloorError)
-            self.assertIsInstance(caught.exception, ValueError)
-            self.assertNotIsInstance(caught.exception, (NoFigure, NoLevel, Apart))
+            self.assert_refused(NoCell, step, direction)
 
 
-class Neighbours(PlaceCase):
+class Neighbours(FloorCase):
     def test_of_the_middle(self):
         self.assertEqual(neighbours((0, 0)), [STEPS[direction] for direction in range(1, 7)])
 
@@ -142,7 +122,7 @@ class Neighbours(PlaceCase):
             self.assertIsNot(neighbours(place), neighbours(place))
 
 
-class Distances(PlaceCase):
+class Distances(FloorCase):
     def test_written_out(self):
         self.assertEqual(distance((0, 0), (0, 0)), 0)
         self.assertEqual(distance((2, 3), (0, 0)), 5)
@@ -193,7 +173,7 @@ class Distances(PlaceCase):
                 self.assertEqual(told, distance(between, (0, 0)))
 
 
-class HandedIn(PlaceCase):
+class HandedIn(FloorCase):
     def test_stays_as_it_was(self):
         for place in PLACES:
             kept = (place[0], place[1])

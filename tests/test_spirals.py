@@ -1,12 +1,9 @@
-import signal
 import unittest
 
-from hexaddress.errors import Apart, FloorError, NoCell, NoFigure, NoLevel
+from helper import GREATEST, LONG, STEPS, FloorCase
+from hexaddress.errors import NoCell
 from hexaddress.spirals import ring, spiral_number, spiral_place
 
-GREATEST = 10 ** 40 - 1
-LONG = 1234567890123456789012345678901234567890
-STEPS = {1: (1, 0), 2: (0, 1), 3: (-1, 1), 4: (-1, 0), 5: (0, -1), 6: (1, -1)}
 SOME_RINGS = (0, 1, 2, 3, 17, 59, 60)
 
 
@@ -34,23 +31,7 @@ def walked_spiral(rings):
     return places
 
 
-def refuse_to_wait(number, frame):
-    raise AssertionError("not answered soon")
-
-
-class SoonCase(unittest.TestCase):
-    def setUp(self):
-        before = signal.signal(signal.SIGALRM, refuse_to_wait)
-        self.addCleanup(signal.signal, signal.SIGALRM, before)
-        self.addCleanup(signal.alarm, 0)
-        signal.alarm(20)
-
-    def assert_kind_of_place(self, answer):
-        self.assertIs(type(answer), tuple)
-        self.assertEqual([type(number) for number in answer], [int, int])
-
-
-class Rings(SoonCase):
+class Rings(FloorCase):
     def test_ring_nought(self):
         self.assertEqual(ring(0), [(0, 0)])
 
@@ -110,7 +91,7 @@ class Rings(SoonCase):
             self.assertIsNot(ring(n), ring(n))
 
 
-class Spirals(SoonCase):
+class Spirals(FloorCase):
     def test_written_out(self):
         self.assertEqual(spiral_number((0, 0)), 0)
         self.assertEqual(spiral_number((1, 0)), 1)
@@ -180,11 +161,7 @@ class Spirals(SoonCase):
     def test_below_nought_is_refused(self):
         # A number of 5000 figures is one that Python itself would not write out.
         for number in (-1, -2, -6, -7, -LONG, -(10 ** 90), -(10 ** 5000)):
-            with self.assertRaises(NoCell) as caught:
-                spiral_place(number)
-            self.assertIsInstance(caught.exception, FloorError)
-            self.assertIsInstance(caught.exception, ValueError)
-            self.assertNotIsInstance(caught.exception, (NoFigure, NoLevel, Apart))
+            self.assert_refused(NoCell, spiral_place, number)
 
     def test_what_is_handed_in_stays_as_it_was(self):
         for place in ((0, 0), (3, -8), (-LONG, GREATEST)):
